@@ -1,0 +1,1 @@
+"""Nearlines: a machine whose boxes are kept near it in lines."""
