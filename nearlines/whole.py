@@ -6,7 +6,10 @@ MOST = 200
 
 def is_whole(thing, low, high):
     """Tell whether anything at all is a whole number from low to high."""
+    return is_any_whole(thing) and low <= thing <= high
+
+
+def is_any_whole(thing):
+    """Tell whether anything at all is a whole number."""
     # Python counts True and False among the integers, the document does not.
-    if not isinstance(thing, int) or isinstance(thing, bool):
-        return False
-    return low <= thing <= high
+    return isinstance(thing, int) and not isinstance(thing, bool)

@@ -6,7 +6,8 @@ import nearlines
 
 FOLDER = os.path.dirname(os.path.abspath(nearlines.__file__))
 
-# What the document's interface lists: each name with its arguments, or None for a class.
+# What the document's interface lists: each name with its arguments, or None for an error; for another class the
+# arguments of its methods.
 INTERFACE = {
     "errors.py": {
         "LineError": None, "BadRow": None, "BadBoxes": None, "BadShape": None, "NoBox": None, "BadPlan": None,
@@ -14,6 +15,15 @@ INTERFACE = {
     "rows.py": {"fits": ["row", "size", "count"], "checked": ["rows", "size"]},
     "notes.py": {"shown": ["row"], "read_row": ["line"]},
     "machine.py": {"run": ["rows", "boxes", "steps"]},
+    "near.py": {
+        "Near": {
+            "__init__": ["self", "boxes", "room", "width", "rule"], "look": ["self", "box"],
+            "put": ["self", "box", "number"], "held": ["self"], "settle": ["self"],
+        },
+    },
+    "running.py": {"run_near": ["rows", "boxes", "steps", "room", "width", "rule"]},
+    "depths.py": {"depths": ["touches", "width"], "missed_by": ["told", "room"]},
+    "plans.py": {"walked": ["touches", "room", "width", "plan"], "best": ["touches", "room", "width"]},
 }
 
 
@@ -29,6 +39,22 @@ def text_of(name):
 
 def parsed(name):
     return ast.parse(text_of(name))
+
+
+def arguments_of(node):
+    return [argument.arg for argument in node.args.args]
+
+
+def defined(nodes, listed):
+    """What of the listed names is defined by the nodes, in the form of the list."""
+    found = {}
+    for node in nodes:
+        if isinstance(node, ast.FunctionDef):
+            found[node.name] = arguments_of(node)
+        if isinstance(node, ast.ClassDef):
+            methods = listed.get(node.name)
+            found[node.name] = defined(node.body, methods) if methods else None
+    return {name: worth for name, worth in found.items() if name in listed}
 
 
 class Package(unittest.TestCase):
@@ -61,15 +87,7 @@ class Package(unittest.TestCase):
 
     def test_the_interface_is_defined_where_it_is_listed(self):
         for name, listed in INTERFACE.items():
-            found = {}
-            for node in parsed(name).body:
-                if isinstance(node, ast.FunctionDef):
-                    found[node.name] = [argument.arg for argument in node.args.args]
-                if isinstance(node, ast.ClassDef):
-                    found[node.name] = None
-            for word, arguments in listed.items():
-                self.assertIn(word, found, name)
-                self.assertEqual(found[word], arguments, (name, word))
+            self.assertEqual(defined(parsed(name).body, listed), listed, name)
 
 
 if __name__ == "__main__":
